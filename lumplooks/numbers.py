@@ -1,4 +1,4 @@
-"""Numbers and names, and the texts of numbers."""
+"""Numbers, names and lists, and the texts of numbers."""
 
 GREATEST = 10 ** 18 - 1
 
@@ -27,3 +27,8 @@ def number_in(text):
     if text[0] == "0" and len(text) > 1:
         return None
     return int(text)
+
+
+def is_list(value):
+    """Whether any value is a list, or a tuple, which may be passed where a list is documented."""
+    return isinstance(value, (list, tuple))

@@ -2,8 +2,11 @@
 
 import unittest
 
-from lumplooks.errors import InvalidText
+from lumplooks.books import Book
+from lumplooks.errors import Clash, InvalidText
 from lumplooks.letters import Letter, cut, letter_for
+from lumplooks.prices import Prices
+from lumplooks.seats import Peg, Thing
 
 
 class ExamplesTest(unittest.TestCase):
@@ -25,6 +28,25 @@ class ExamplesTest(unittest.TestCase):
         with self.assertRaises(InvalidText) as caught:
             Letter.read('5-3')
         self.assertEqual(caught.exception.given, '5-3')
+
+    def test_steps(self):
+        records = [('stay', 'a', 'hall', 0, 3), ('stay', 'b', 'hall', 1, 4), ('look', 1, 'a', 7)]
+        self.assertEqual(
+            Book([Thing('a', 1), Peg('b')], records).steps(),
+            [('look', 2, 'a', 7), ('meeting', 'hall', 1, 3, ('a', 'b'))],
+        )
+
+    def test_clash(self):
+        with self.assertRaises(Clash) as caught:
+            Book([Thing('a', 1)], [('given', 'a', 7), ('given', 'a', 7)])
+        self.assertEqual(caught.exception.at, 1)
+
+    def test_bound(self):
+        book = Book([Thing('a', 1)], [('given', 'a', 7)])
+        self.assertEqual(
+            [Prices(book, [[0]]).bound(Letter((7, 7))), Prices(book, [[-1]]).bound(Letter((7, 7)), counted=['a'], sign=1)],
+            [0, 1],
+        )
 
 
 if __name__ == "__main__":

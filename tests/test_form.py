@@ -16,6 +16,14 @@ DEFINED = {
     "numbers": {"is_number": "(value, least=0, most=999999999999999999)", "is_name": "(value)", "number_in": "(text)"},
     "letters": {"Letter": "(*spans)", "cut": "(*letters)", "letter_for": "(wanted, others)"},
     "seats": {"Seat": "(name)", "Thing": "(name, number)", "Peg": "(name)"},
+    "books": {"Book": "(seats=(), records=())"},
+    "stories": {"Story": "(book, letter, states)"},
+    "prices": {"Prices": "(book, prices)"},
+    "papers": {
+        "Paper": "(book, letter)", "Least": "(book, letter, story, prices)",
+        "Counts": "(book, letter, names, low_story, high_story, low_prices, high_prices)",
+        "Fate": "(book, letter, name, low_story, high_story, low_prices, high_prices)",
+    },
 }
 # For each class what its own body defines; parameters behind the object itself.
 METHODS = {
@@ -29,6 +37,31 @@ METHODS = {
     },
     ("seats", "Thing"): {"number": None, "text": "()", "__init__": "(name, number)", "__eq__": "(other)"},
     ("seats", "Peg"): {"__init__": "(name)"},
+    ("books", "Book"): {
+        "seats": "()", "records": "()", "names": "(*kinds)", "seat": "(name)", "steps": "()", "with_record": "(record)",
+        "without": "(index)", "since": "(hour)", "__init__": "(seats=(), records=())", "__contains__": "(name)",
+        "__len__": "()", "__eq__": "(other)", "__repr__": "()",
+    },
+    ("stories", "Story"): {
+        "book": None, "letter": None, "states": "()", "holds": "()", "false_records": "()", "named": "()",
+        "__init__": "(book, letter, states)", "__eq__": "(other)", "__repr__": "()",
+    },
+    ("prices", "Prices"): {
+        "book": None, "rows": "()", "is_whole": "()", "bound": "(letter, *, counted=(), sign=0)",
+        "__init__": "(book, prices)", "__repr__": "()",
+    },
+    ("papers", "Paper"): {
+        "book": None, "letter": None, "told": "()", "holds": "()", "__init__": "(book, letter)", "__repr__": "()",
+    },
+    ("papers", "Least"): {
+        "story": None, "prices": None, "many_false": "()", "told": "()", "holds": "()",
+        "__init__": "(book, letter, story, prices)",
+    },
+    ("papers", "Counts"): {
+        "names": "()", "low_story": None, "high_story": None, "low_prices": None, "high_prices": None, "low": "()",
+        "high": "()", "told": "()", "holds": "()",
+    },
+    ("papers", "Fate"): {"label": None, "told": "()"},
 }
 BUILTINS = {
     "len", "range", "enumerate", "zip", "min", "max", "sum", "abs", "sorted", "reversed", "int", "str", "bool", "bytes",

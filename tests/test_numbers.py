@@ -1,6 +1,6 @@
 import unittest
 
-from lumplooks.numbers import GREATEST, is_name, is_number, number_in
+from lumplooks.numbers import GREATEST, is_list, is_name, is_number, number_in
 from tests.helpers import wrong_values
 
 
@@ -62,6 +62,10 @@ class NumbersTest(unittest.TestCase):
     def test_number_in_wrong_values(self):
         for value in [5, 0, *wrong_values()]:
             self.assertIsNone(number_in(value), repr(value))
+
+    def test_lists_and_tuples_are_lists(self):
+        for value in [[], (), [5], (5,), [[]], "ab", 5, None, *wrong_values()]:
+            self.assertIs(is_list(value), type(value) in (list, tuple))
 
 
 if __name__ == "__main__":
