@@ -7,7 +7,7 @@ from lumplooks.errors import LumpError
 from lumplooks.letters import Letter
 from lumplooks.seats import Peg, Thing
 
-NAMES = ["a", "b", "c", "d"]
+NAMES = ["a", "b", "c", "d", "e", "f", "g", "h"]
 LETTER = Letter((7, 8))
 
 
@@ -16,10 +16,15 @@ def random_seats(chance, many):
     return [Thing(name, at) if chance.random() < 0.7 else Peg(name) for at, name in enumerate(names)]
 
 
-def random_record(chance, seats):
+# How often records of each kind are tried: many meetings, or many records that can be false.
+STAYS = ("given", "mixed", "swap", "look", *("stay",) * 6)
+LOOKS = ("given", "given", "mixed", "swap", "swap", "swap", "look", "look", "look", "look", "stay")
+
+
+def random_record(chance, seats, words=STAYS):
     """A record of some seats, perhaps a wrong one; the numbers 7 and 8 are those of LETTER."""
     names = [seat.label for seat in seats]
-    word = chance.choice(["given", "mixed", "swap", "look", *["stay"] * 6])
+    word = chance.choice(words)
     number = chance.randint(5, 9)
     hour = chance.randint(0, 6)
     if word == "given":
@@ -34,12 +39,12 @@ def random_record(chance, seats):
     return word, hour, chance.choice(names), number
 
 
-def random_book(chance, most_seats, most_records):
+def random_book(chance, most_seats, most_records, words=STAYS):
     """A book with up to so many seats and records."""
     book = Book(random_seats(chance, chance.randint(1, most_seats)))
     for _ in range(chance.randint(0, most_records)):
         try:
-            book = book.with_record(random_record(chance, book.seats()))
+            book = book.with_record(random_record(chance, book.seats(), words))
         except LumpError:
             continue
     return book

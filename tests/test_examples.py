@@ -2,9 +2,12 @@
 
 import unittest
 
+from lumplooks.answerers import Answerer
 from lumplooks.books import Book
+from lumplooks.cases import Case
 from lumplooks.errors import Clash, InvalidText
 from lumplooks.letters import Letter, cut, letter_for
+from lumplooks.lumps import lists, looks, lumps, plan
 from lumplooks.prices import Prices
 from lumplooks.seats import Peg, Thing
 
@@ -46,6 +49,32 @@ class ExamplesTest(unittest.TestCase):
         self.assertEqual(
             [Prices(book, [[0]]).bound(Letter((7, 7))), Prices(book, [[-1]]).bound(Letter((7, 7)), counted=['a'], sign=1)],
             [0, 1],
+        )
+
+    def test_lumps(self):
+        records = [('given', 'a', 7), ('given', 'b', 3), ('stay', 'a', 'hall', 0, 2), ('stay', 'b', 'hall', 1, 2)]
+        case = Case(Book([Thing('a', 1), Thing('b', 2)], records), Letter((7, 7)))
+        self.assertEqual(
+            [case.fates(), lists(case), looks(case), plan(case), repr(lumps(case)[0]), case.letter_to_owners()],
+            [{'a': 'perhaps', 'b': 'perhaps'}, [['b'], ['a']], 1, ['a'], 'Lump(a b: closed)', '1-2'],
+        )
+
+    def test_least(self):
+        records = [('given', 'a', 7), ('look', 5, 'a', 3), ('look', 6, 'a', 4)]
+        case = Case(Book([Thing('a', 1)], records), Letter((7, 7)))
+        self.assertEqual(
+            [case.least, case.best().told(), case.record_fate(0), case.record_fate(1), case.fewest('a'),
+             case.fate('a').told()],
+            [1, 'least 1', 'always', 'never', 2, 'fate never'],
+        )
+
+    def test_answerer(self):
+        seats = [Thing('a', 1), Thing('b', 2), Thing('c', 3)]
+        case = Case(Book(seats, [('mixed', ('a', 'b', 'c'), (7, 3, 4))]), Letter((7, 7)))
+        asker = Answerer(case)
+        self.assertEqual(
+            [case.counts('a', 'b').told(), asker('a'), asker.is_settled(), len(asker)],
+            ['counts 0 to 1', False, False, 1],
         )
 
 

@@ -24,6 +24,17 @@ DEFINED = {
         "Counts": "(book, letter, names, low_story, high_story, low_prices, high_prices)",
         "Fate": "(book, letter, name, low_story, high_story, low_prices, high_prices)",
     },
+    "cases": {"Case": "(book, letter)"},
+    "lumps": {
+        "Lump": "(names, pegs, is_loose)", "lumps": "(case)", "looks": "(case)", "plan": "(case)",
+        "lists": "(case, *, limit=1000)", "exchange": "(case, one, other)", "alone": "(case, name)",
+        "fates_after": "(case, *answers)",
+    },
+    "answerers": {"Answerer": "(case)"},
+    "more": {
+        "comes": "(case, record)", "goes": "(case, record)", "spare": "(case, *, limit=1000)",
+        "turned": "(book, letter, other)",
+    },
 }
 # For each class what its own body defines; parameters behind the object itself.
 METHODS = {
@@ -62,6 +73,19 @@ METHODS = {
         "high": "()", "told": "()", "holds": "()",
     },
     ("papers", "Fate"): {"label": None, "told": "()"},
+    ("cases", "Case"): {
+        "book": None, "letter": None, "least": None, "best": "()", "counts": "(*names)", "fate": "(name)",
+        "fates": "()", "fewest": "(name, *, is_named=True)", "record_fate": "(index)", "write": "()",
+        "letter_to_owners": "()", "__init__": "(book, letter)", "__repr__": "()",
+    },
+    ("lumps", "Lump"): {
+        "names": "()", "pegs": "()", "is_open": None, "looks": "()", "__init__": "(names, pegs, is_loose)",
+        "__len__": "()", "__repr__": "()",
+    },
+    ("answerers", "Answerer"): {
+        "answer": "(name)", "asked": "()", "is_settled": "()", "pair": "()", "take_back": "()", "__init__": "(case)",
+        "__call__": "(name)", "__len__": "()", "__repr__": "()",
+    },
 }
 BUILTINS = {
     "len", "range", "enumerate", "zip", "min", "max", "sum", "abs", "sorted", "reversed", "int", "str", "bool", "bytes",
