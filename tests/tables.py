@@ -1,9 +1,11 @@
 """The least numbers of false records for each state, step by step: for books with too many stories to make each one."""
 
+import random
 from functools import lru_cache
 from itertools import combinations
 
-from tests.samples import beginnings, exchanged, nexts
+from lumplooks.cases import Case
+from tests.samples import LETTER, LOOKS, STAYS, beginnings, exchanged, nexts, random_book
 
 
 def begin_cost(book, letter, state):
@@ -137,3 +139,10 @@ def fitting(states, name, word):
 def some_names(names, most):
     """All lists of up to so many names."""
     return [list(some) for many in range(most + 1) for some in combinations(names, many)]
+
+
+def random_cases(seed, many, most_seats, most_records):
+    """Pairs of a case and its tables, for some random books."""
+    chance = random.Random(seed)
+    books = [random_book(chance, most_seats, most_records, [STAYS, LOOKS][at % 2]) for at in range(many)]
+    return [(Case(book, LETTER), Tables(book, LETTER)) for book in books]

@@ -11,19 +11,13 @@ from lumplooks.errors import NotAThing, NothingLeft, UnknownName
 from lumplooks.lumps import fates_after, looks
 from lumplooks.seats import Peg, Thing
 from tests.helpers import wrong_values
-from tests.samples import LETTER, LOOKS, STAYS, random_book
-from tests.tables import Tables, fitting
+from tests.samples import LETTER
+from tests.tables import Tables, fitting, random_cases
 
 BOOK = Book([Thing("a", 1), Thing("b", 2), Thing("c", 3), Thing("d", 4), Peg("p"), Thing("e", 5)], [
     ("mixed", ("a", "b", "c"), (7, 3, 8)), ("given", "d", 7), ("given", "e", 3),
 ])
 CASE = Case(BOOK, LETTER)
-
-
-def random_cases(seed, many, most_seats, most_records):
-    chance = random.Random(seed)
-    books = [random_book(chance, most_seats, most_records, [STAYS, LOOKS][at % 2]) for at in range(many)]
-    return [(Case(book, LETTER), Tables(book, LETTER)) for book in books]
 
 
 class AnswererTest(unittest.TestCase):

@@ -12,8 +12,8 @@ from lumplooks.prices import Prices
 from lumplooks.seats import Peg, Thing
 from lumplooks.stories import Story
 from tests.helpers import wrong_values
-from tests.samples import LETTER, LOOKS, STAYS, all_stories, false_in, random_book
-from tests.tables import Tables, some_names
+from tests.samples import LETTER, all_stories, false_in, random_book
+from tests.tables import Tables, random_cases, some_names
 
 EMPTY = Case(Book(), LETTER)
 # Two things that meet, a third one that was seen to have a named part in spite of what it was given, and a peg.
@@ -23,13 +23,6 @@ BOOK = Book([Thing("a", 11), Thing("b", 12), Thing("c", 13), Peg("p")], [
 ])
 CASE = Case(BOOK, LETTER)
 ORDER = ["a", "b", "c", "p"]
-
-
-def random_cases(seed, many, most_seats, most_records):
-    """Tuples (case, tables) for some random books."""
-    chance = random.Random(seed)
-    books = [random_book(chance, most_seats, most_records, [STAYS, LOOKS][at % 2]) for at in range(many)]
-    return [(Case(book, LETTER), Tables(book, LETTER)) for book in books]
 
 
 class PlainTest(unittest.TestCase):

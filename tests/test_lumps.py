@@ -10,8 +10,8 @@ from lumplooks.letters import Letter
 from lumplooks.lumps import Lump, alone, exchange, fates_after, lists, looks, lumps, plan
 from lumplooks.seats import Peg, Thing
 from tests.helpers import wrong_values
-from tests.samples import LETTER, LOOKS, STAYS, random_book
-from tests.tables import Tables, fitting
+from tests.samples import LETTER
+from tests.tables import Tables, fitting, random_cases
 
 # A closed lump a b d, an open one with the peg p, a loose thing f, a sure one and one that never has a named part.
 BOOK = Book([Thing(name, at) for at, name in enumerate("abcdefgh")] + [Peg("p")], [
@@ -19,12 +19,6 @@ BOOK = Book([Thing(name, at) for at, name in enumerate("abcdefgh")] + [Peg("p")]
     ("given", "e", 3),
 ])
 CASE = Case(BOOK, LETTER)
-
-
-def random_cases(seed, many, most_seats, most_records):
-    chance = random.Random(seed)
-    books = [random_book(chance, most_seats, most_records, [STAYS, LOOKS][at % 2]) for at in range(many)]
-    return [(Case(book, LETTER), Tables(book, LETTER)) for book in books]
 
 
 class LumpTest(unittest.TestCase):
