@@ -201,48 +201,61 @@ def is_event(record):
     return record[0] in ("swap", "look")
 
 
-def cuts_of(records):
-    """The hours between which nothing but meetings can happen, ascending."""
-    hours = []
-    for record in records:
-        if record[0] == "stay":
-            hours.extend([record[3], record[4]])
-        elif is_event(record):
-            hours.append(record[1])
-    return sorted(set(hours))
-
-
 def steps_of(names, records):
     """The steps of a book with seats of these names."""
-    cuts = cuts_of(records)
+    events = events_by_hour(records)
+    cuts = cuts_of(events, records)
+    meetings = meetings_by_hour(cuts, names, records)
     steps = []
-    for at, hour in enumerate(cuts):
-        steps.extend(events_at(hour, records))
-        if at + 1 < len(cuts):
-            steps.extend(meetings_between(hour, cuts[at + 1], names, records))
+    for hour in cuts:
+        steps.extend(events.get(hour, []))
+        steps.extend(meetings.get(hour, []))
     return steps
 
 
-def events_at(hour, records):
-    """The swaps and looks of an hour."""
-    return [
-        (record[0], at, record[2], record[3])
-        for at, record in enumerate(records) if is_event(record) and record[1] == hour
-    ]
+def events_by_hour(records):
+    """For each hour its swaps and looks."""
+    events = {}
+    for at, record in enumerate(records):
+        if is_event(record):
+            events.setdefault(record[1], []).append((record[0], at, record[2], record[3]))
+    return events
 
 
-def meetings_between(start, end, names, records):
-    """The meetings from one cut to the next one."""
-    shops = {}
+def cuts_of(events, records):
+    """The hours between which nothing but meetings can happen, ascending."""
+    hours = list(events)
     for record in records:
-        if record[0] == "stay" and record[3] <= start and end <= record[4]:
-            shops.setdefault(record[2], []).append(record[1])
-    meetings = []
-    for shop in sorted(shops):
-        if len(shops[shop]) > 1:
-            inside = [name for name in names if name in shops[shop]]
-            meetings.append(("meeting", shop, start, end, tuple(inside)))
+        if record[0] == "stay":
+            hours.extend([record[3], record[4]])
+    return sorted(set(hours))
+
+
+def meetings_by_hour(cuts, names, records):
+    """For each cut the meetings from there to the next one, if there are stays."""
+    meetings = {}
+    shops = shops_by_hour(cuts, names, records)
+    for start, end in zip(cuts, cuts[1:]):
+        inside = shops.get(start, {})
+        meetings[start] = [
+            ("meeting", shop, start, end, tuple(inside[shop])) for shop in sorted(inside) if len(inside[shop]) > 1
+        ]
     return meetings
+
+
+def shops_by_hour(cuts, names, records):
+    """For each cut and shop the names of the seats that stay there until the next one, in the order of the book."""
+    stays = {name: [] for name in names}
+    for record in records:
+        if record[0] == "stay":
+            stays[record[1]].append(record)
+    places = {hour: place for place, hour in enumerate(cuts)}
+    shops = {}
+    for name in names:
+        for record in stays[name]:
+            for hour in cuts[places[record[3]]:places[record[4]]]:
+                shops.setdefault(hour, {}).setdefault(record[2], []).append(name)
+    return shops
 
 
 def step_seats(step):

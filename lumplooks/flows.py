@@ -6,8 +6,6 @@ with room left costs less than the height to which it leads exceeds that from wh
 
 from heapq import heappop, heappush
 
-from lumplooks.nets import OUTSIDE
-
 
 class Flow:
     """A flow with the least costs, with the heights that show it. It never changes."""

@@ -50,6 +50,26 @@ def random_book(chance, most_seats, most_records, words=STAYS):
     return book
 
 
+def great_book(chance, hours, shops):
+    """A book of 24 seats and 120 records of all kinds, with stays in so many shops."""
+    names = [chr(ord("a") + at) for at in range(24)]
+    seats = [Peg(name) if chance.random() < 0.2 else Thing(name, at) for at, name in enumerate(names)]
+    things = [seat.label for seat in seats if seat.IS_LOOKED_AT]
+    records = [("given", name, chance.randint(5, 9)) for name in names[:15]]
+    records.append(("mixed", tuple(names[15:20]), (7, 3, 8, 3, 3)))
+    for name, start in chance.sample([(name, start) for name in names for start in (0, hours // 2)], 40):
+        end = start + chance.randint(1, hours // 2)
+        records.append(("stay", name, "shop" + "abcdefgh"[chance.randrange(shops)], start, end))
+    while len(records) < 120:
+        hour = chance.randint(0, hours)
+        if chance.random() < 0.4:
+            records.append(("swap", hour, *chance.sample(names, 2)))
+        else:
+            records.append(("look", hour, chance.choice(things), chance.randint(5, 9)))
+    chance.shuffle(records)
+    return Book(seats, records)
+
+
 def subsets(names):
     return [frozenset(some) for many in range(len(names) + 1) for some in combinations(names, many)]
 

@@ -12,7 +12,7 @@ from lumplooks.lumps import fates_after, looks
 from lumplooks.seats import Peg, Thing
 from tests.helpers import wrong_values
 from tests.samples import LETTER
-from tests.tables import Tables, fitting, random_cases
+from tests.tables import fitting, random_cases
 
 BOOK = Book([Thing("a", 1), Thing("b", 2), Thing("c", 3), Thing("d", 4), Peg("p"), Thing("e", 5)], [
     ("mixed", ("a", "b", "c"), (7, 3, 8)), ("given", "d", 7), ("given", "e", 3),

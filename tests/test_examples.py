@@ -1,14 +1,18 @@
-"""The examples at the end of the document that need the present modules alone."""
+"""The examples at the end of the document."""
 
 import unittest
 
 from lumplooks.answerers import Answerer
 from lumplooks.books import Book
 from lumplooks.cases import Case
-from lumplooks.errors import Clash, InvalidText
+from lumplooks.desk import Desk
+from lumplooks.errors import Clash, InvalidPage, InvalidText
 from lumplooks.letters import Letter, cut, letter_for
 from lumplooks.lumps import lists, looks, lumps, plan
+from lumplooks.pages import read_page
 from lumplooks.prices import Prices
+from lumplooks.recalls import Recall
+from lumplooks.rules import Rule
 from lumplooks.seats import Peg, Thing
 
 
@@ -75,6 +79,37 @@ class ExamplesTest(unittest.TestCase):
         self.assertEqual(
             [case.counts('a', 'b').told(), asker('a'), asker.is_settled(), len(asker)],
             ['counts 0 to 1', False, False, 1],
+        )
+
+    def test_rules(self):
+        self.assertEqual(
+            [Rule(2, 'timed').covers(Rule(1, 'any')), Rule(2, 'timed').covers(Rule(2, 'any')),
+             Rule().covers(Rule(0, 'timed')), repr(Rule())],
+            [True, False, False, 'Rule(any number, stopped)'],
+        )
+
+    def test_recall(self):
+        recall = Recall()
+        recall.do(('thing', 'a', 1), ('peg', 'b'), ('letter', '7'))
+        recall.do(('record', ('given', 'a', 7)))
+        first = [recall.least_now(), recall.fate('a'), recall.looks(), recall.computed]
+        recall.undo()
+        self.assertEqual(
+            [first, recall.history(), recall.is_kept, recall.fate('a')],
+            [[0, 'sure', 0, 1], (1, 1), False, 'perhaps'],
+        )
+
+    def test_wrong_page(self):
+        with self.assertRaises(InvalidPage) as caught:
+            read_page('letter 7\nthing a\n')
+        self.assertEqual(caught.exception.line, 1)
+
+    def test_desk(self):
+        desk = Desk()
+        self.assertEqual(
+            [desk('thing a 1'), desk('letter 5-9 but 6'), desk('look 3 a 6'), desk('looks'), desk('fate a'),
+             desk('write'), desk('fate  a'), desk('fate c')],
+            ['done', 'done', 'done', '0', 'never', 'none', 'unknown', 'error UnknownName'],
         )
 
 

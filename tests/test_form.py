@@ -35,6 +35,10 @@ DEFINED = {
         "comes": "(case, record)", "goes": "(case, record)", "spare": "(case, *, limit=1000)",
         "turned": "(book, letter, other)",
     },
+    "rules": {"Rule": "(links=None, order='stopped')"},
+    "recalls": {"Recall": "(*, limit=60)"},
+    "pages": {"write_page": "(recall)", "read_page": "(text)"},
+    "desk": {"Desk": "(*, recall=None)"},
 }
 # For each class what its own body defines; parameters behind the object itself.
 METHODS = {
@@ -85,6 +89,21 @@ METHODS = {
     ("answerers", "Answerer"): {
         "answer": "(name)", "asked": "()", "is_settled": "()", "pair": "()", "take_back": "()", "__init__": "(case)",
         "__call__": "(name)", "__len__": "()", "__repr__": "()",
+    },
+    ("rules", "Rule"): {
+        "links": None, "order": None, "written": "(book, letter)", "misses": "(case)", "needless": "(case)",
+        "covers": "(other)", "witness": "(other)", "__init__": "(links=None, order='stopped')", "__eq__": "(other)",
+        "__repr__": "()",
+    },
+    ("recalls", "Recall"): {
+        "limit": None, "set_limit": "(value)", "do": "(*commands)", "undo": "()", "redo": "()", "history": "()",
+        "busy": None, "book_now": "()", "letter_now": "()", "least_now": "()", "looks": "()", "fate": "(name)",
+        "case": "()", "is_kept": None, "computed": None, "twin": "()", "__init__": "(*, limit=60)",
+        "__contains__": "(name)", "__len__": "()", "__eq__": "(other)", "__repr__": "()",
+    },
+    ("desk", "Desk"): {
+        "say": "(line)", "recall": "()", "log": "()", "__init__": "(*, recall=None)", "__call__": "(line)",
+        "__len__": "()", "__repr__": "()",
     },
 }
 BUILTINS = {

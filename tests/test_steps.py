@@ -3,7 +3,7 @@ import unittest
 
 from lumplooks.books import Book
 from lumplooks.seats import Peg, Thing
-from tests.samples import random_book
+from tests.samples import great_book, random_book
 
 SEATS = [Thing("c", 1), Peg("a"), Thing("b", 2), Peg("d")]
 
@@ -113,6 +113,33 @@ class StepsTest(unittest.TestCase):
             self.assertEqual(book.steps(), steps_by_middles(book), book.records())
             found += len([step for step in book.steps() if step[0] == "meeting"])
         self.assertGreater(found, 400)
+
+    def test_great_books(self):
+        chance = random.Random(18)
+        for hours, shops in [(10, 1), (20, 2), (120, 4), (300, 8), (10 ** 6, 3)]:
+            for _ in range(4):
+                book = great_book(chance, hours, shops)
+                self.assertEqual([len(book), len(book.records())], [24, 120])
+                self.assertEqual(book.steps(), steps_by_middles(book))
+                for other in [book.without(7), book.since(hours // 2), book.without(0).with_record(("swap", 5, "a", "b"))]:
+                    self.assertEqual(other.steps(), steps_by_middles(other))
+
+    def test_a_look_at_each_hour(self):
+        names = [chr(ord("a") + at) for at in range(24)]
+        book = Book([Thing(name, at) for at, name in enumerate(names)],
+                    [("look", hour, names[hour % 24], 0) for hour in reversed(range(120))])
+        self.assertEqual(book.steps(), [("look", 119 - hour, names[hour % 24], 0) for hour in range(120)])
+
+    def test_shops_full_of_seats(self):
+        """All seats stay all the time, so that they meet from each look to the next one."""
+        for shops in [1, 2, 12]:
+            names = [chr(ord("a") + at) for at in range(24)]
+            book = Book([Thing(name, at) for at, name in enumerate(names)], [
+                *[("stay", name, "abcdefghijkl"[at % shops], 0, 95) for at, name in enumerate(names)],
+                *[("look", hour, names[hour % 24], 0) for hour in range(96)],
+            ])
+            self.assertEqual(book.steps(), steps_by_middles(book))
+            self.assertEqual(len(book.steps()), 96 + 95 * shops)
 
     def test_kinds_of_values(self):
         chance = random.Random(17)

