@@ -1,8 +1,8 @@
 """Answerers: they answer looks such that as long as possible not everything is settled."""
 
 from lumplooks.cases import story_of
-from lumplooks.errors import NotAThing, NothingLeft, UnknownName
-from lumplooks.lumps import rows_of
+from lumplooks.errors import NotAThing, NothingLeft
+from lumplooks.lumps import lump_rows
 
 
 class Answerer:
@@ -16,8 +16,6 @@ class Answerer:
 
     def answer(self, name):
         """Whether a thing bears a named part."""
-        if name not in self._case.book:
-            raise UnknownName(name)
         if not self._case.book.seat(name).IS_LOOKED_AT:
             raise NotAThing(name)
         for told, is_named in self._asked:
@@ -75,16 +73,11 @@ def best_answer(fit, name):
     ways = [way for way in ways if way is not None]
     if len(ways) == 1:
         return ways[0]
-    rest, is_loose = [
-        ([other for other in names if other != name], is_loose) for names, is_loose in rows_of(fit) if name in names
-    ][0]
+    wanted = [
+        ([other for other in names if other != name], is_loose) for names, is_loose in lump_rows(fit) if name in names
+    ]
     for way in ways:
-        if keeps(way, rest, is_loose):
+        if wanted[0] in lump_rows(way):
             return way
-    # This is reached only if nothing is left that must be kept: one other seat, which is not loose.
+    # Nothing that can be kept is left in the lump, but at most one other seat that is not loose.
     return ways[0]
-
-
-def keeps(fit, names, is_loose):
-    """Whether some seats are still in one lump, which is loose as before."""
-    return not names or (names, is_loose) in rows_of(fit)

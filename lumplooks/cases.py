@@ -39,7 +39,7 @@ class Case:
     def best(self):
         """A best story, with prices which show that it is one."""
         flow = self._flow
-        return Least(self._book, self._letter, self._story(flow), self._prices(flow))
+        return Least(self._book, self._letter, story_of(self, flow), prices_with(self, flow))
 
     def counts(self, *names):
         """How many of some seats are in a list at least and at most, with stories and prices which show it."""
@@ -102,19 +102,18 @@ class Case:
         if name not in self._book:
             raise UnknownName(name)
 
-    def _story(self, flow):
-        return Story(self._book, self._letter, states_of(flow.net, flow.left))
-
-    def _prices(self, flow):
-        return Prices(self._book, prices_of(flow.net, flow.heights))
-
     def _bent(self, names):
         """Two stories whose lists have the fewest and the most of some seats, and the prices that show it."""
         low = self._flow.bent({name: 1 for name in names})
         high = self._flow.bent({name: -1 for name in names})
-        return [self._story(low), self._story(high), self._prices(low), self._prices(high)]
+        return [story_of(self, low), story_of(self, high), prices_with(self, low), prices_with(self, high)]
 
 
-def story_of(case, fit):
-    """The story of a best flow of a case."""
-    return Story(case.book, case.letter, states_of(fit.web.net, fit.left))
+def story_of(case, flow):
+    """The story of a flow of a case."""
+    return Story(case.book, case.letter, states_of(flow.net, flow.left))
+
+
+def prices_with(case, flow):
+    """The prices that show that a flow of a case has the least costs."""
+    return Prices(case.book, prices_of(flow.net, flow.heights))

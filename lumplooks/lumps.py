@@ -41,14 +41,14 @@ class Lump:
 def lumps(case):
     """The list of the lumps, in the order of their first seats."""
     found = []
-    for names, is_loose in rows_of(case.fit()):
+    for names, is_loose in lump_rows(case.fit()):
         things = [name for name in names if case.book.seat(name).IS_LOOKED_AT]
         pegs = [name for name in names if name not in things]
         found.append(Lump(things, pegs, is_loose))
     return found
 
 
-def rows_of(fit):
+def lump_rows(fit):
     """The lumps of the unsettled seats behind some answers, as pairs (names, whether they are loose)."""
     partners = fit.partners()
     rows = []

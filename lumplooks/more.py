@@ -28,7 +28,8 @@ def spare(case, *, limit=1000):
     wanted = lists(case, limit=limit)
     book = case.book
     cases = [Case(book.without(at), case.letter) for at in range(len(book.records()))]
-    return [at for at, other in enumerate(cases) if has_lists(other, wanted)]
+    # Most records that are not spare change a fate, which is found sooner than the lists.
+    return [at for at, other in enumerate(cases) if other.fates() == case.fates() and has_lists(other, wanted)]
 
 
 def has_lists(case, wanted):

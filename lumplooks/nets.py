@@ -35,8 +35,6 @@ class Net:
         # For each seat: the node where it stands, and since which state if others can stand there, too.
         self._places = {}
         self._since = {}
-        # For each node where several seats can stand: their names.
-        self._inside = {}
         self._weave(book, letter)
 
     def tail(self, half):
@@ -64,7 +62,7 @@ class Net:
                 self._tell(at, OUTSIDE, record[1], record[2] in letter, 0)
             elif record[0] == "mixed":
                 hub = self._add_node()
-                self._stand(hub, [name for name in book.names() if name in record[1]], 0)
+                self._stand(hub, record[1], 0)
                 many = len([number for number in record[2] if number in letter])
                 self.supply[hub] += many
                 self.supply[OUTSIDE] -= many
@@ -87,21 +85,20 @@ class Net:
         self.tellers[at] = [self._add_arc(first, second, 1, self._wrong), self._add_arc(second, first, 1, self._wrong)]
 
     def _meet(self, names, state):
-        """Lead some seats to one node. If the very same seats stand at one node, nothing new can happen to them."""
-        place = self._places[names[0]]
-        if self._inside.get(place) == list(names) and all([self._places[name] == place for name in names]):
-            for name in names:
-                self.marks[name].append((state, place))
-            return
+        """Lead some seats to one node. If they stand at one already, their parts can be exchanged as it is."""
         groups = {}
         for name in names:
             groups.setdefault(self._places[name], []).append(name)
+        if len(groups) == 1:
+            for name in names:
+                self.marks[name].append((state, self._places[name]))
+            return
         hub = self._add_node()
         for node, group in groups.items():
             half = self._add_arc(node, hub, len(group), 0)
             for position, name in enumerate(group):
                 self._leave(name, half, position)
-        self._stand(hub, list(names), state)
+        self._stand(hub, names, state)
 
     def _alone(self, name):
         """The node where a seat stands alone, a new one if others can stand at its present one."""
@@ -128,7 +125,6 @@ class Net:
 
     def _stand(self, hub, names, state):
         """Note that some seats stand at a node together, from a state on."""
-        self._inside[hub] = names
         for name in names:
             self._places[name] = hub
             self._since[name] = state

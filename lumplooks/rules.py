@@ -20,7 +20,7 @@ class Rule:
     def __init__(self, links=None, order="stopped"):
         if links is not None and not is_number(links, 0, MOST_LINKS):
             raise InvalidNumber(links)
-        if not isinstance(order, str) or order not in Rule.ORDERS:
+        if order not in Rule.ORDERS:
             raise InvalidRule(order)
         self._links = links
         self._order = order

@@ -57,6 +57,7 @@ class Fit:
     def __init__(self, web, left, closed):
         net = web.net
         self.web = web
+        self.net = net
         self.left = left
         self._closed = closed
         self._forth = web.reached(left, [OUTSIDE], closed)
@@ -68,16 +69,16 @@ class Fit:
 
     def has(self, name):
         """Whether a seat has a named part at the end."""
-        return self.left[self.web.net.ends[name]] == 0
+        return self.left[self.net.ends[name]] == 0
 
     def fates(self):
         """The dict from the name of each seat to its fate over all best flows with these closed seats."""
-        settled = {name: "sure" if self.has(name) else "never" for name in self.web.net.ends}
+        settled = {name: "sure" if self.has(name) else "never" for name in self.net.ends}
         return {name: "perhaps" if name in self.unsettled else fate for name, fate in settled.items()}
 
     def turned(self, name):
         """What room is left in a best flow in which an unsettled seat is changed, and at most one seat more."""
-        net = self.web.net
+        net = self.net
         half = net.ends[name]
         turn = 1 if self.has(name) else 0
         left = list(self.left)
@@ -93,7 +94,7 @@ class Fit:
             if name not in self.unsettled:
                 return None
             left = self.turned(name)
-        half = self.web.net.ends[name]
+        half = self.net.ends[name]
         return Fit(self.web, left, {**self._closed, half: True, half + 1: True})
 
     def partners(self):
@@ -101,7 +102,7 @@ class Fit:
 
         Of two partners one has a named part at the end, and the other one has none.
         """
-        net = self.web.net
+        net = self.net
         begins = [half for half in self.web.tight[OUTSIDE] if half % 2 == 0]
         from_nothing = self._reached([net.heads[half] for half in begins if self.left[half] > 0])
         named = [name for name in self.unsettled if self.has(name)]

@@ -136,6 +136,12 @@ def fitting(states, name, word):
     return frozenset(state for state in states if (name in state) is word)
 
 
+def is_best(case, story):
+    """Whether a story is a best one of a case."""
+    is_of = story.book == case.book and story.letter == case.letter
+    return is_of and story.holds() and len(story.false_records()) == case.least
+
+
 def some_names(names, most):
     """All lists of up to so many names."""
     return [list(some) for many in range(most + 1) for some in combinations(names, many)]

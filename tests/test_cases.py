@@ -13,7 +13,7 @@ from lumplooks.seats import Peg, Thing
 from lumplooks.stories import Story
 from tests.helpers import wrong_values
 from tests.samples import LETTER, all_stories, false_in, random_book
-from tests.tables import Tables, random_cases, some_names
+from tests.tables import Tables, is_best, random_cases, some_names
 
 EMPTY = Case(Book(), LETTER)
 # Two things that meet, a third one that was seen to have a named part in spite of what it was given, and a peg.
@@ -154,9 +154,7 @@ class StoriesTest(unittest.TestCase):
 class PapersTest(unittest.TestCase):
     def check_story(self, case, story):
         self.assertIsInstance(story, Story)
-        self.assertEqual([story.book, story.letter], [case.book, case.letter])
-        self.assertIs(story.holds(), True)
-        self.assertEqual(len(story.false_records()), case.least)
+        self.assertTrue(is_best(case, story))
 
     def test_best(self):
         for case, _ in random_cases(84, 150, 8, 32):

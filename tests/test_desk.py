@@ -154,7 +154,8 @@ class FormsTest(unittest.TestCase):
                 "mixed , 7", "mixed a,b 07,8", "stay a hall 5", "stay a hall 5 x", "stay a hall 5 6 7", "stay a 5 6 hall",
                 "swap a b 5", "swap 5 a", "swap 5 a b c", "swap x a b", "look 5 a", "look a 5 7", "look 5 a x", "look 5 a 7 8",
                 "strike", "strike x", "strike -1", "strike 01", "strike 0 1", "strike 1000000000000000000", "undo 1", "redo 1",
-                "Undo", "least 1", "fate", "fate a b", "fate  a", "fate a ", "looks a", "plan a", "plan none", "write 5",
+                "Undo", "least 1", "fate", "fate ", "fate a\n", "fate \n", "fate\na", "strike 0\n",
+                "strike ", "undo ", "redo \n", "plan a b", "least 1 2 3", "undo x y", "fate a b", "fate  a", "fate a ", "looks a", "plan a", "plan none", "write 5",
                 "write\n", "least\nleast", "done", "unknown", "none", "record given a 7", "limit 5", "case", "twin", "history",
             ], "unknown")
 

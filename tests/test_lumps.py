@@ -11,7 +11,7 @@ from lumplooks.lumps import Lump, alone, exchange, fates_after, lists, looks, lu
 from lumplooks.seats import Peg, Thing
 from tests.helpers import wrong_values
 from tests.samples import LETTER
-from tests.tables import Tables, fitting, random_cases
+from tests.tables import Tables, fitting, is_best, random_cases
 
 # A closed lump a b d, an open one with the peg p, a loose thing f, a sure one and one that never has a named part.
 BOOK = Book([Thing(name, at) for at, name in enumerate("abcdefgh")] + [Peg("p")], [
@@ -169,29 +169,47 @@ class ExchangeTest(unittest.TestCase):
         """Both stories are best, and their lists differ by these seats alone."""
         self.assertIsInstance(pair, tuple)
         first, second = pair
-        for story in pair:
-            self.assertEqual([story.book, story.letter], [case.book, case.letter])
-            self.assertIs(story.holds(), True)
-            self.assertEqual(len(story.false_records()), case.least)
+        self.assertTrue(is_best(case, first) and is_best(case, second))
         self.assertEqual(set(first.named()) - set(second.named()), mine)
         self.assertEqual(set(second.named()) - set(first.named()), others)
 
-    def test_random_books(self):
-        found = set()
-        for case, tables in random_cases(105, 150, 8, 32):
-            loose, pairs = tables.loose(), tables.exchangeable()
-            for one in case.book.names():
-                pair = alone(case, one)
-                self.assertIs(pair is not None, one in loose)
+    def check_all_pairs(self, case, tables):
+        """Which seats are loose, and which two are exchangeable."""
+        loose, pairs = tables.loose(), tables.exchangeable()
+        for one in case.book.names():
+            pair = alone(case, one)
+            self.assertIs(pair is not None, one in loose)
+            if pair:
+                self.check_pair(case, pair, {one}, set())
+            for other in case.book.names():
+                pair = exchange(case, one, other)
+                self.assertIs(pair is not None, (one, other) in pairs)
                 if pair:
-                    self.check_pair(case, pair, {one}, set())
-                for other in case.book.names():
-                    pair = exchange(case, one, other)
-                    self.assertIs(pair is not None, (one, other) in pairs)
-                    found.add((pair is not None, one in loose))
-                    if pair:
-                        self.check_pair(case, pair, {one}, {other})
-        self.assertEqual(len(found), 4)
+                    self.check_pair(case, pair, {one}, {other})
+        return len(loose), len(pairs)
+
+    def test_random_books(self):
+        found = [self.check_all_pairs(case, tables) for case, tables in random_cases(105, 150, 8, 32)]
+        self.assertTrue({(True, True), (False, True), (True, False), (False, False)} <= {
+            (loose > 0, pairs > 0) for loose, pairs in found
+        })
+
+    def test_loose_things_beside_closed_lumps(self):
+        """Of some things two records say the opposite, so that they are loose; others are in closed lumps."""
+        for turns in ["", "a", "b", "ab", "abc"]:
+            records = [("given", name, 7 if name in turns else 3) for name in "abc"]
+            records += [("look", 5, name, 3 if name in turns else 7) for name in "abc"]
+            book = Book([Thing(name, at) for at, name in enumerate("aDbEcFGH".lower())], [
+                *records, ("mixed", ("d", "e", "f"), (7, 3, 4)), ("mixed", ("g", "h"), (8, 3)),
+            ])
+            case, tables = Case(book, LETTER), Tables(book, LETTER)
+            self.assertEqual(
+                [repr(lump) for lump in lumps(case)],
+                ["Lump(a b c: open)", "Lump(d e f: closed)", "Lump(g h: closed)"],
+            )
+            self.assertEqual([case.least, looks(case), tables.looks()], [3, 6, 6])
+            self.assertEqual(lists(case), tables.ordered_lists())
+            self.check_all_pairs(case, tables)
 
     def test_one_book(self):
         self.assertIsNone(exchange(CASE, "a", "a"))
@@ -214,12 +232,7 @@ class ExchangeTest(unittest.TestCase):
             book = Book([Thing(name, at) for at, name in enumerate(names)], rows if turned else records)
             case, tables = Case(book, LETTER), Tables(book, LETTER)
             self.assertEqual(lists(case), tables.ordered_lists())
-            for one in names:
-                for other in names:
-                    pair = exchange(case, one, other)
-                    self.assertIs(pair is not None, (one, other) in tables.exchangeable())
-                    if pair:
-                        self.check_pair(case, pair, {one}, {other})
+            self.check_all_pairs(case, tables)
 
     def test_unknown_names(self):
         for value in [*wrong_values(), "x", ("a",)]:
