@@ -113,12 +113,12 @@ class Fit:
             reached = self._reached([net.tail(net.ends[name])])
             is_loose = any([self.left[half + 1] > 0 and net.heads[half] in reached for half in begins])
             # Without the one part, and with another one that comes from nothing, is an exchange, too.
-            join(found, name, [
+            note_partners(found, name, [
                 other for other in others if net.tail(net.ends[other]) in reached or (is_loose and other in new)
             ])
             if is_loose:
-                join(found, name, [NOTHING])
-        join(found, NOTHING, new)
+                note_partners(found, name, [NOTHING])
+        note_partners(found, NOTHING, new)
         return found
 
     def _reached(self, starts):
@@ -129,7 +129,7 @@ class Fit:
         return self._back if self.has(name) else self._forth
 
 
-def join(found, name, others):
+def note_partners(found, name, others):
     """Note that one name and some others are partners."""
     found[name].extend(others)
     for other in others:
