@@ -34,8 +34,13 @@ class Lump:
         return len([*self._names, *self._pegs])
 
     def __repr__(self):
-        words = " ".join([*self._names, *self._pegs])
-        return f"Lump({words}: open)" if self.is_open else f"Lump({words}: closed)"
+        if self.is_open:
+            return f"Lump({self._words()}: open)"
+        return f"Lump({self._words()}: closed)"
+
+    def _words(self):
+        """The names of all seats, first of the things, with spaces between."""
+        return " ".join([*self._names, *self._pegs])
 
 
 def lumps(case):

@@ -133,6 +133,22 @@ def nodes(kinds):
     return found
 
 
+def is_text(node):
+    """Whether a returned value is a string, an f-string, str(..), repr(..) or the join of a literal."""
+    if isinstance(node, ast.Call) and isinstance(node.func, ast.Attribute):
+        return node.func.attr == "join" and is_text(node.func.value) and isinstance(node.func.value, ast.Constant)
+    if isinstance(node, ast.Call):
+        return isinstance(node.func, ast.Name) and node.func.id in ("str", "repr")
+    return isinstance(node, ast.JoinedStr) or isinstance(node, ast.Constant) and isinstance(node.value, str)
+
+
+def is_length(node):
+    """Whether a returned value is len(..) or a literal number."""
+    if isinstance(node, ast.Call):
+        return isinstance(node.func, ast.Name) and node.func.id == "len"
+    return isinstance(node, ast.Constant) and isinstance(node.value, int) and not isinstance(node.value, bool)
+
+
 def parameters(made):
     """The parameters of a function or, without its object, of a method."""
     return str(inspect.signature(made)).replace("(self, ", "(").replace("(self)", "()")
@@ -215,6 +231,26 @@ class LanguageTest(unittest.TestCase):
                 self.assertTrue(word in ("property", "staticmethod", "classmethod") or word.endswith(".setter"), place)
             if node.name.startswith("__"):
                 self.assertIn(node.name, OWN_METHODS, place)
+
+    def test_what_own_methods_return(self):
+        forms = {"__repr__": is_text, "__str__": is_text, "__len__": is_length}
+        for place, node in nodes(ast.FunctionDef):
+            if node.name in forms:
+                self.assertIsInstance(node.body[-1], ast.Return, place)
+                for inner in ast.walk(node):
+                    if isinstance(inner, ast.Return):
+                        self.assertTrue(forms[node.name](inner.value), place)
+
+    def test_forms_of_returned_values(self):
+        for text, of_text, of_length in [
+            ("'a'", True, False), ("f'{a}'", True, False), ("str(a)", True, False), ("repr(a)", True, False),
+            ("' '.join(a)", True, False), ("len(a)", False, True), ("3", False, True), ("a", False, False),
+            ("f'{a}' if b else f'{c}'", False, False), ("'a' + 'b'", False, False), ("a.join(b)", False, False),
+            ("str(a).join(b)", False, False), ("a.text()", False, False), ("a or 'b'", False, False),
+            ("len(a) + 1", False, False), ("1 if a else 2", False, False), ("True", False, False), ("b'a'", False, False),
+        ]:
+            node = ast.parse(text, mode="eval").body
+            self.assertEqual([is_text(node), is_length(node)], [of_text, of_length], text)
 
     def test_no_statements_that_the_language_lacks(self):
         barred = (ast.Global, ast.AsyncFunctionDef, ast.Await, ast.AsyncFor, ast.AsyncWith, ast.Div)
